@@ -264,3 +264,48 @@ func TestRates(t *testing.T) {
 		t.Errorf("%v", before)
 	}
 }
+
+// The whole: a plan is flown from its first leg to its last one, though the wind changes and one computer fails on the way.
+func TestFlight(t *testing.T) {
+	x := begin(t, scenario(t))
+	x.Run("CMD 1 " + long + "\nCYCLE 4\nCMD 2 EXEC\nCYCLE 1\nCMD 1 NAV\nCYCLE 1")
+	for i := range 60 {
+		if v := x.View(2); v.Targets.Lateral != api.LatNav && v.Targets.Lateral != api.LatArmed {
+			break
+		}
+		for computer := 1; computer <= 2; computer++ {
+			if v := x.View(computer); i != 21 && !reflect.DeepEqual(v, x.View(1)) {
+				t.Fatalf("%d: the views differ", i)
+			}
+		}
+		x.Do(fmt.Sprintf("WIND %d %d", i%40-20, 20-i%30))
+		switch i {
+		case 20:
+			x.Do("STOP 1")
+		case 21:
+			x.Do("RESTART 1")
+		}
+		x.Do("CYCLE 5")
+	}
+	v := x.View(2)
+	if v.Progress.Entry < 4 || v.Active.Active < 4 || v.Targets.Lateral != api.LatApproach {
+		t.Errorf("%v %d %v", v.Progress, v.Active.Active, v.Targets)
+	}
+	if c := x.Craft().Point; c.X < -6000 || c.X > 6000 || c.Y < 500_000 {
+		t.Errorf("%v", c)
+	}
+}
+
+// P60.5: the least and the greatest numbers, and a key that sends nothing
+func TestLineEdges(t *testing.T) {
+	x := begin(t, scenario(t))
+	for _, line := range []string{"ERROR 7 3 4", "ERROR 0 1 2", "SILENT 1", "SILENT 0", "WIND 200 -200", "SLIP -20 20", "CMD 2 HDG 9", "KEY 2 PROG", "KEY 2 A", "LOSE 2 1", "LOSE 1 4"} {
+		expect(t, x, line, "OK")
+	}
+	x.Do("CYCLE 1")
+	want := api.Happening{Moment: api.Moment{Wind: api.Wind{East: 200, North: -200}, Slip: api.Velocity{East: -20, North: 20}, Errors: [][2]int64{0: {1, 2}, 7: {3, 4}}, Commands: [2]string{"", "HDG 9"}}}
+	want.Fates[1][0].Lost, want.Fates[0][3].Lost = true, true
+	if got := last(x, 1)[0]; !reflect.DeepEqual(got, want) {
+		t.Errorf("%v, not %v", got, want)
+	}
+}

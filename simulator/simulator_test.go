@@ -433,6 +433,16 @@ func TestRails(t *testing.T) {
 	}
 }
 
+// P59.5: at the tick 0 the flight is at its beginning, whatever the first passage says
+func TestRailsBeginning(t *testing.T) {
+	p := api.Prediction{Passages: []api.Passage{{Tick: -5}, {Tick: 10, Ground: 100}}}
+	for tick, want := range map[int64]int64{0: 0, 1: 600} {
+		if d, e := Rails(p, []int64{9999}, tick); d != want || e != api.OK {
+			t.Errorf("%d: %d %v", tick, d, e)
+		}
+	}
+}
+
 // P59.5: numbers of any size, with the arithmetic of layer 1
 func TestRailsExtremes(t *testing.T) {
 	p := api.Prediction{Passages: []api.Passage{{Tick: math.MinInt64}, {Tick: -5, Ground: 1}, {Tick: 10, Ground: math.MaxInt64}}}
