@@ -85,6 +85,10 @@ func TestParse(t *testing.T) {
 		"KSEA KPDX/RW28R":                         {item(api.OriginItem, "KSEA", ""), item(api.DestinationItem, "KPDX", "RW28R")},
 		"K D=A DCT A=B.C P=D.E K":                 {item(api.OriginItem, "K", ""), item(api.DepartureItem, "A", ""), item(api.DirectItem, "", ""), item(api.ArrivalItem, "B", "C"), item(api.ApproachItem, "D", "E"), item(api.DestinationItem, "K", "")},
 		"K DCT ABCDEFGH DCT A=B K":                {item(api.OriginItem, "K", ""), item(api.DirectItem, "", ""), item(api.NameItem, "ABCDEFGH", ""), item(api.DirectItem, "", ""), item(api.ArrivalItem, "B", ""), item(api.DestinationItem, "K", "")},
+		"DCT DCT A":                               {item(api.OriginItem, "DCT", ""), item(api.DirectItem, "", ""), item(api.DestinationItem, "A", "")},
+		"DCT DCT DCT":                             {item(api.OriginItem, "DCT", ""), item(api.DirectItem, "", ""), item(api.DestinationItem, "DCT", "")},
+		"DCT DCT":                                 {item(api.OriginItem, "DCT", ""), item(api.DestinationItem, "DCT", "")},
+		"DCT/DCT DCT X DCT DCT/DCT":               {item(api.OriginItem, "DCT", "DCT"), item(api.DirectItem, "", ""), item(api.NameItem, "X", ""), item(api.DirectItem, "", ""), item(api.DestinationItem, "DCT", "DCT")},
 		"K A/00 P=I K":                            {item(api.OriginItem, "K", ""), item(api.FixItem, "A/00", ""), item(api.ApproachItem, "I", ""), item(api.DestinationItem, "K", "")},
 	} {
 		got, i, e := Parse(s)
@@ -116,7 +120,7 @@ func TestParse(t *testing.T) {
 		e api.Errno
 	}{
 		"": {0, api.ErrForm}, "KSEA": {1, api.ErrForm}, "D=A": {0, api.ErrForm}, "KSEA ": {1, api.ErrForm}, " KSEA": {0, api.ErrForm}, "KSEA  KPDX": {1, api.ErrForm}, "KSEATAC KPDX": {0, api.ErrForm}, "KSEA/RW16LXX KPDX": {0, api.ErrForm}, "KSEA KPDX/": {1, api.ErrForm}, "KSEA A/K1/K2 KPDX": {1, api.ErrForm}, "KSEA ABCDEFGHI KPDX": {1, api.ErrForm}, "KSEA a KPDX": {1, api.ErrForm}, "KSEA D= KPDX": {1, api.ErrForm}, "KSEA D=A. KPDX": {1, api.ErrForm}, "KSEA D=A.B.C KPDX": {1, api.ErrForm}, "KSEA D=ABCDEFGHI KPDX": {1, api.ErrForm}, "KSEA X=A KPDX": {1, api.ErrForm}, "KSEA X A=1 KPDX": {2, api.ErrForm},
-		"KSEA D=A BTG D=B KPDX": {3, api.ErrOrder}, "K P=A X K": {1, api.ErrOrder}, "K A=A X K": {1, api.ErrOrder}, "K A=A P=B X K": {1, api.ErrOrder}, "K A=A X P=B K": {1, api.ErrOrder}, "K A=A A=B K": {1, api.ErrOrder}, "K P=A P=B K": {1, api.ErrOrder}, "K DCT DCT K": {2, api.ErrOrder}, "K DCT DCT x K": {2, api.ErrOrder}, "K A=B P= K": {2, api.ErrForm}, "K A=A D=B K": {1, api.ErrOrder},
+		"KSEA D=A BTG D=B KPDX": {3, api.ErrOrder}, "K P=A X K": {1, api.ErrOrder}, "K A=A X K": {1, api.ErrOrder}, "K A=A P=B X K": {1, api.ErrOrder}, "K A=A X P=B K": {1, api.ErrOrder}, "K A=A A=B K": {1, api.ErrOrder}, "K P=A P=B K": {1, api.ErrOrder}, "K DCT DCT K": {2, api.ErrOrder}, "K DCT DCT x K": {2, api.ErrOrder}, "DCT": {1, api.ErrForm}, "DCT DCT DCT A": {2, api.ErrOrder}, "DCT DCT DCT DCT": {2, api.ErrOrder}, "K A=B P= K": {2, api.ErrForm}, "K A=A D=B K": {1, api.ErrOrder},
 		"x" + long + " A": {124, api.ErrLimit},
 	} {
 		if got, i, e := Parse(s); len(got) != 0 || i != want.i || e != want.e {
@@ -269,6 +273,29 @@ func TestExpandErrors(t *testing.T) {
 	// "A FM leg leads nowhere": the fix behind it stands behind a gap, and no airway begins there.
 	if _, i, e := Expand(db, "KPDX A=FM KSEA"); i != 0 || e != api.OK {
 		t.Errorf("%d, %v", i, e)
+	}
+}
+
+// P22.4, P22.6: an airport that is named like the word DCT is a place at both ends and nowhere else.
+func TestExpandPlaceNamedLikeDirect(t *testing.T) {
+	db, diags := navdb.Compile(strings.Replace(source, "RUNWAY RW16L", "AIRPORT DCT K1 N46400000W120000000 30\nRUNWAY RW16L", 1))
+	if len(diags) > 0 {
+		t.Fatal(diags)
+	}
+	for s, want := range map[string]string{
+		"DCT DCT KPDX":      "E :IF DCT/K1; E :TF KPDX/K1",
+		"DCT DCT B DCT DCT": "E :IF DCT/K1; E :TF B/K1; E :TF DCT/K1",
+	} {
+		p, i, e := Expand(db, s)
+		if show(p) != want || i != 0 || e != api.OK {
+			t.Errorf("Expand(%s) = %s, %d, %v", s, show(p), i, e)
+		}
+		if again, _, e := Expand(db, Print(p)); e != api.OK || !plan.Same(p, again) {
+			t.Errorf("%s is printed as %s: %v", s, Print(p), e)
+		}
+	}
+	if p, i, e := Expand(db, "DCT DCT DCT KPDX"); !plan.Same(p, api.Plan{}) || i != 2 || e != api.ErrOrder {
+		t.Errorf("%s, %d, %v", show(p), i, e)
 	}
 }
 
